@@ -1,0 +1,72 @@
+"""Founds: what is found of the logs of houses."""
+
+from maplost.errors import InvalidCount, InvalidCounts, InvalidFounds, InvalidLater
+from maplost.texts import are_lines, is_name
+from maplost.values import are_different, is_below, is_list, is_tuple
+
+MOST_READERS = 12
+
+
+def is_founds(value):
+    """Whether any value is founds."""
+    if not is_list(value) or not 1 <= len(value) <= MOST_READERS:
+        return False
+    for item in value:
+        if not is_tuple(item, 2) or not are_lines(item[1]):
+            return False
+        if item[0] is not None and not is_name(item[0]):
+            return False
+    return are_different([own for own, lines in value if own is not None])
+
+
+def check_founds(founds):
+    """Raises InvalidFounds unless the value is founds."""
+    if not is_founds(founds):
+        raise InvalidFounds(founds)
+
+
+def found(network, house, many):
+    """What is found of a house whose log is cut off behind its first lines, so many of them."""
+    log = list(network.log(house))
+    if not is_below(many, len(log) + 1):
+        raise InvalidCount(many)
+    return (network.names[house], log[:many])
+
+
+def common(founds):
+    """The ascending list of the lines that all readers have."""
+    check_founds(founds)
+    tables = [{line: True for line in lines} for own, lines in founds]
+    return [line for line in sorted(tables[0]) if all([line in table for table in tables])]
+
+
+def is_whole(founds):
+    """Whether all lines of the founds are common."""
+    many = len(common(founds))
+    return all([len(lines) == many for own, lines in founds])
+
+
+def cut_back(founds, counts):
+    """The founds in which each reader has only the first lines, as many as `counts` tells."""
+    check_founds(founds)
+    if not is_list(counts) or len(counts) != len(founds):
+        raise InvalidCounts(counts)
+    for count, (own, lines) in zip(counts, founds):
+        if not is_below(count, len(lines) + 1):
+            raise InvalidCounts(counts)
+    return [(own, list(lines[:count])) for count, (own, lines) in zip(counts, founds)]
+
+
+def goes_on(founds, later):
+    """Whether the logs of founds go on to those of later ones."""
+    check_founds(founds)
+    if not is_founds(later):
+        raise InvalidLater(later)
+    if len(founds) != len(later):
+        return False
+    for (own, lines), (later_own, later_lines) in zip(founds, later):
+        if own is not None and own != later_own:
+            return False
+        if list(lines) != list(later_lines[:len(lines)]):
+            return False
+    return True
