@@ -22,12 +22,12 @@ def ordered(nodes, pairs):
 
 def find_ring(nodes, pairs):
     """A tuple of different nodes that are in a ring, or None if there is none."""
-    order = ordered(nodes, pairs)
-    kept = [node for node in nodes if node not in order]
+    free = {node: True for node in ordered(nodes, pairs)}
+    kept = [node for node in nodes if node not in free]
     if not kept:
         return None
     # To each node that is kept back some arrow leads from such a node, so the walk backwards comes round.
-    before = {b: a for a, b in pairs if a in kept}
+    before = {b: a for a, b in pairs if a not in free}
     walk = []
     node = kept[0]
     while node not in walk:
@@ -63,3 +63,16 @@ def longest_row(nodes, pairs):
 def is_chain(pairs, value):
     """Whether each item of a tuple and the next one are one of the arrows."""
     return all([pair in pairs for pair in zip(value, value[1:])])
+
+
+def reached(pairs, start):
+    """The dict of the nodes to which arrows lead from a node, one or several in a row."""
+    nodes = {}
+    fresh = [start]
+    while fresh:
+        node = fresh.pop()
+        for a, b in pairs:
+            if a == node and b not in nodes:
+                nodes[b] = True
+                fresh.append(b)
+    return nodes

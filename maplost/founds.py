@@ -1,6 +1,6 @@
 """Founds: what is found of the logs of houses."""
 
-from maplost.errors import InvalidCount, InvalidCounts, InvalidFounds, InvalidLater
+from maplost.errors import InvalidCount, InvalidCounts, InvalidFounds, InvalidLater, InvalidName
 from maplost.texts import are_lines, is_name
 from maplost.values import are_different, is_below, is_list, is_tuple
 
@@ -23,6 +23,18 @@ def check_founds(founds):
     """Raises InvalidFounds unless the value is founds."""
     if not is_founds(founds):
         raise InvalidFounds(founds)
+
+
+def names_of(founds):
+    """The ascending list of the names that lines of the founds bear or that are own."""
+    borne = [line[0] for own, lines in founds for line in lines]
+    return sorted(set(borne + [own for own, lines in founds if own is not None]))
+
+
+def check_name(founds, name):
+    """Raises InvalidName unless the value is a name that a line of the founds bears or that is own."""
+    if not is_name(name) or name not in names_of(founds):
+        raise InvalidName(name)
 
 
 def found(network, house, many):

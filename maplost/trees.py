@@ -1,7 +1,7 @@
 """Trees of houses and roads."""
 
 from maplost.errors import InvalidHouse, InvalidHouses, InvalidRoads, InvalidText, LostError, NotARoad, NotJoined
-from maplost.values import is_below, is_int, is_list, is_number, is_tuple
+from maplost.values import is_ascending, is_below, is_int, is_list, is_number, is_tuple
 
 MOST_HOUSES = 64
 FIGURES = 2
@@ -49,7 +49,7 @@ def are_roads(houses, value):
             return False
         if road[0] >= road[1]:
             return False
-    return all([value[k] < value[k + 1] for k in range(len(value) - 1)])
+    return is_ascending(value)
 
 
 def houses_near(houses, roads):

@@ -97,12 +97,17 @@ def check_fit(founds):
         raise Nobodys(picture)
 
 
+def held_arrows(founds):
+    """For each choice that holds the list of its arrows."""
+    items = items_of(founds)
+    choices = [choice_arrows(founds, choice) for choice in (0, 1)]
+    return [pairs for pairs in choices if wrong_in(items, pairs) is None]
+
+
 def best_arrows(founds):
     """The arrows of a choice that holds whose longest rows are as short as can be; some choice holds."""
     items = items_of(founds)
-    choices = [choice_arrows(founds, choice) for choice in (0, 1)]
-    held = [pairs for pairs in choices if wrong_in(items, pairs) is None]
-    return min(held, key=lambda arrows: len(longest_row(items, arrows)))
+    return min(held_arrows(founds), key=lambda arrows: len(longest_row(items, arrows)))
 
 
 def two_roads(founds):

@@ -1,16 +1,11 @@
 """A network behind two logs."""
 
 from maplost.chains import heights
-from maplost.errors import Refused
-from maplost.networks import is_script, run_network
+from maplost.plans import are_seat_names, fresh_name, is_plan, network_behind
 from maplost.runs import script_behind
-from maplost.texts import are_names
 from maplost.trees import Tree, way
 from maplost.two import best_arrows, items_by_name, items_of, two_fit, two_roads
-from maplost.values import is_tuple
 from maplost.wayrows import way_rows
-
-LETTERS = "abcdefghijklmnopqrstuvwxyz"
 
 
 def two_network(founds):
@@ -45,12 +40,6 @@ def way_names(founds, levels, roads):
     return [start, *names, end]
 
 
-def fresh_name(used):
-    """The first name of one or two letters that is not used."""
-    names = [first + second for first in ["", *LETTERS] for second in LETTERS]
-    return [name for name in names if name not in used][0]
-
-
 def tree_of(roads, hung):
     """The tree of a way of so many roads and, for each item of `hung`, one more house beside this house."""
     pairs = [(house, house + 1) for house in range(roads)]
@@ -71,33 +60,17 @@ def seat_rows(founds, levels, roads):
 
 def is_two_network(founds, value):
     """Whether any value is a network that leaves the two logs, with as few roads between as can be."""
-    if not two_fit(founds) or not is_tuple(value, 4):
+    if not two_fit(founds) or not is_plan(value, 2):
         return False
     tree, names, seats, script = value
-    if not isinstance(tree, Tree) or not are_names(names, tree.houses) or not is_script(tree, script):
+    if len(way(tree, seats[0], seats[1])) - 1 != two_roads(founds) or not are_seat_names(founds, names, seats):
         return False
-    if not is_tuple(seats, 2) or seats[0] not in tree or seats[1] not in tree:
-        return False
-    if len(way(tree, seats[0], seats[1])) - 1 != two_roads(founds):
-        return False
-    return are_seat_names(founds, names, seats) and leaves_logs(founds, tree, names, seats, script)
+    network = network_behind(value)
+    return network is not None and begin_logs(network, founds, seats)
 
 
-def are_seat_names(founds, names, seats):
-    """Whether each seat has the own of its reader as its name, or one that no line bears if that is None."""
-    borne = [line[0] for own, lines in founds for line in lines]
-    for (own, lines), seat in zip(founds, seats):
-        if names[seat] != own and (own is not None or names[seat] in borne):
-            return False
-    return True
-
-
-def leaves_logs(founds, tree, names, seats, script):
-    """Whether the script can be done, and leaves logs of the seats that begin with the lines of the readers."""
-    try:
-        network = run_network(tree, names, script)
-    except Refused:
-        return False
+def begin_logs(network, founds, seats):
+    """Whether the logs of the seats begin with the lines of the readers."""
     for (own, lines), seat in zip(founds, seats):
         if list(network.log(seat)[:len(lines)]) != list(lines):
             return False

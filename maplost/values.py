@@ -31,3 +31,8 @@ def is_number(word, most):
 def are_different(values):
     """Whether no two of some integers, strings, and tuples of these are equal."""
     return len(set(values)) == len(values)
+
+
+def is_ascending(values):
+    """Whether some integers, or strings, or tuples of such, are ascending and no two of them are equal."""
+    return all([values[k] < values[k + 1] for k in range(len(values) - 1)])

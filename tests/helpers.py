@@ -72,6 +72,11 @@ def random_tree(dice, houses):
     return Tree(houses, sorted((dice.randrange(k), k) for k in range(1, houses)))
 
 
+def long_tree(dice, houses):
+    """A tree at random with long ways."""
+    return Tree(houses, sorted((dice.randrange(max(0, k - 3), k), k) for k in range(1, houses)))
+
+
 def path(houses):
     return Tree(houses, [(k, k + 1) for k in range(houses - 1)])
 
@@ -101,6 +106,50 @@ def random_network(dice, houses, lines, loss):
         if live and dice.random() < 0.005:
             network.stop(dice.choice(live))
     return network
+
+
+def ended_network(dice, houses, lines, writers=None):
+    """A network that has run at random until nothing was under way."""
+    tree = random_tree(dice, houses)
+    network = Network(tree, house_names(houses))
+    made = 0
+    roads = []
+    while roads or made < lines:
+        if made < lines and (not roads or dice.random() < 0.3):
+            network.make(dice.choice(writers or range(houses)), str(made))
+            made += 1
+        else:
+            network.hand(*dice.choice(roads))
+        roads = [road for road in both_ways(tree) if network.under_way(*road)]
+    return network
+
+
+def round_network(dice, tree, writers):
+    """An ended network in which some houses first make a line each, and then all lines are handed on at random."""
+    network = Network(tree, house_names(tree.houses))
+    for house in writers:
+        network.make(house, "1")
+    while True:
+        roads = [road for road in both_ways(tree) if network.under_way(*road)]
+        if not roads:
+            return network
+        network.hand(*dice.choice(roads))
+
+
+def ends_of(tree):
+    """The houses of a tree that have one neighbour at most."""
+    return [house for house in range(tree.houses) if len(tree.near[house]) < 2]
+
+
+def whole_founds(dice, network, seats, known=0.6):
+    """The whole logs of the seats, some of them without their names where these wrote nothing."""
+    founds = []
+    for seat in seats:
+        log = list(network.log(seat))
+        own = network.names[seat]
+        silent = all(line[0] != own for line in log)
+        founds.append((None if silent and dice.random() > known else own, log))
+    return founds
 
 
 def random_found(dice, network, house, known=True):

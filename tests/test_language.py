@@ -71,6 +71,11 @@ def top_names(tree):
     return names
 
 
+def defined_names(tree):
+    """The names that a file defines itself, not by an import."""
+    return top_names(ast.Module([node for node in tree.body if not isinstance(node, ast.ImportFrom)], []))
+
+
 def is_plain(node):
     if isinstance(node, ast.Tuple):
         return all(is_plain(item) for item in node.elts)
@@ -116,7 +121,7 @@ class TestLanguage(unittest.TestCase):
                     package, file = node.module.split(".")
                     self.assertEqual(package, "maplost")
                     seen[name].append(file + ".py")
-                    defined = [n.name for n in self.trees[file + ".py"].body if hasattr(n, "name")]
+                    defined = defined_names(self.trees[file + ".py"])
                     for alias in node.names:
                         self.assertIsNone(alias.asname)
                         self.assertIn(alias.name, defined)
