@@ -5,7 +5,7 @@ from maplost.chains import find_ring, longest_row
 from maplost.errors import InvalidLot, InvalidMap, InvalidReaders, Ringed
 from maplost.founds import MOST_READERS, check_founds
 from maplost.lots import do_cross, lot_of, parting, readers_of
-from maplost.texts import is_line, is_name
+from maplost.texts import is_name
 from maplost.values import is_ascending, is_below, is_int, is_list, is_tuple
 
 
@@ -65,15 +65,14 @@ def is_cross(founds, value):
     if not is_tuple(value, 5) or not is_tuple(value[4], 4):
         return False
     a, b, c, d, readers = value
-    if not all([is_line(line) for line in (a, b, c, d)]) or not all([is_below(k, len(founds)) for k in readers]):
+    if not all([is_below(reader, len(founds)) for reader in readers]):
         return False
     if not all([line in lines for line in (a, b, c, d) for own, lines in founds]):
         return False
-    rows = [list(founds[k][1]) for k in readers]
+    rows = [list(founds[reader][1]) for reader in readers]
     first = [row.index(a) < row.index(b) for row in rows]
     second = [row.index(c) < row.index(d) for row in rows]
-    # A line is not ahead of itself, so neither pair is of one line.
-    return a != b and c != d and first == [True, True, False, False] and second == [True, False, True, False]
+    return first == [True, True, False, False] and second == [True, False, True, False]
 
 
 def check_many(readers):
@@ -120,7 +119,7 @@ def comes_of(rough, fine, readers):
     """Whether the one map comes of the other one by drawing roads together."""
     check_map(rough, readers)
     check_map(fine, readers)
-    told = {lot: (roads, arrows) for lot, roads, arrows in fine}
+    told = {lot: (roads, {arrow: True for arrow in arrows}) for lot, roads, arrows in fine}
     for lot, roads, arrows in rough:
         if lot not in told or roads > told[lot][0] or not all([arrow in told[lot][1] for arrow in arrows]):
             return False

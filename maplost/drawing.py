@@ -76,12 +76,13 @@ def draw_way(sketch, founds, arrows, way):
     """Adds the houses on the roads of a cut, and beside them the houses of the other names between."""
     near, far, roads = way
     counts = counts_by(founds, arrows)
-    sources, targets = [a for a, b in arrows], [b for a, b in arrows]
-    inner = [name for name in counts if name in sources and name in targets]
+    sources = [a for a, b in arrows]
     last = far
-    for t, row in enumerate(rows_between(sketch.rows[far], sketch.rows[near], counts, roads)):
-        # A longest row has a name at each house between, so none of these houses needs a name of its own.
-        names = [name for name in inner if counts[name] == t + 1]
+    rows = rows_between(sketch.rows[far], sketch.rows[near], counts, roads)
+    for t, row in enumerate(rows):
+        # A longest row has a name at each house between, so none of these houses needs a name of its own. A name
+        # with such a count from which no arrow leads can hang behind all of these roads, as its part tells.
+        names = [name for name in counts if counts[name] == t + 1 and name in sources]
         house = sketch.stand(names[0], row)
         sketch.link(last, house)
         for name in names[1:]:

@@ -66,7 +66,7 @@ def why_no_fewer(founds):
 def is_why_no_fewer(founds, value):
     """Whether any value shows that there are no fewer houses."""
     check_fits(founds)
-    if not is_tuple(value, 2) or type(value[0]) is not tuple or type(value[1]) is not tuple:
+    if not is_tuple(value, 2) or type(value[0]) is not tuple:
         return False
     numbers, names = value
     choices = empty_choices(founds, map_of(founds))

@@ -120,7 +120,7 @@ def is_three(founds, value):
     if not is_tuple(value, 2) or not is_tuple(value[0], 3) or not is_tuple(value[1], 3):
         return False
     lines, readers = value
-    if not all([is_line(line) for line in lines]) or not all([is_below(reader, len(founds)) for reader in readers]):
+    if not all([is_below(reader, len(founds)) for reader in readers]):
         return False
     orders = [[line for line in founds[reader][1] if line in lines] for reader in readers]
     return orders == [[*lines[k:], *lines[:k]] for k in range(3)]

@@ -2,7 +2,7 @@
 
 from maplost.chains import heights
 from maplost.cuts import cut_with
-from maplost.lots import is_within, lot_of, sides
+from maplost.lots import is_in, is_within, lot_of, sides
 from maplost.pictures import check_fits
 from maplost.places import map_of, ways
 from maplost.wayrows import next_row
@@ -26,25 +26,22 @@ def rows_at(founds, drawn):
 
 
 def place_lots(drawn):
-    """For each place the number of the lot of its cut, 0 for the place of reader 0."""
-    return [0, *[lot_of(lot) for lot, roads, arrows in drawn]]
+    """For each place the number of the lot of its cut, for the first one that of reader 0 alone."""
+    return [1, *[lot_of(lot) for lot, roads, arrows in drawn]]
 
 
 def is_on_side(place, lot, others):
-    """Whether a place, by the number of the lot of its cut, is on the side of a lot and not of all other readers.
+    """Whether a place, by its number of `place_lots`, is on the side of a lot, and not on that of all other readers.
 
-    The lot and that of the others may be all readers and none, too.
+    That of the two which lacks reader 0 is the lot of a cut, or empty.
     """
-    if lot & 1:
-        return place == 0 or not is_within(place, others)
-    return place != 0 and is_within(place, lot)
+    return not is_within(place, others) if is_in(0, lot) else is_within(place, lot)
 
 
 def steps(founds, lot):
     """For each name the greatest number of arrows in a row of names, by the arrows of a cut, that ends in it."""
     check_fits(founds)
-    roads, arrows = cut_with(founds, lot)[1:]
-    counts = counts_by(founds, arrows)
+    counts = counts_by(founds, cut_with(founds, lot)[2])
     return [(name, counts[name]) for name in sorted(counts)]
 
 

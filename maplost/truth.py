@@ -15,12 +15,14 @@ def true_map(tree, names, seats):
     parted = sides_by_lot(tree, seats)
     told = []
     for lot in sorted(parted):
-        arrows = {}
-        for houses in parted[lot]:
-            others = [house for house in range(tree.houses) if house not in houses]
-            arrows.update({(names[house], names[other]): True for house in houses for other in others})
-        told.append((lot, len(parted[lot]), tuple(sorted(arrows))))
+        told.append((lot, len(parted[lot]), arrows_over(tree, names, parted[lot])))
     return told
+
+
+def arrows_over(tree, names, sides):
+    """The ascending tuple of the arrows from the names on any of some sides of roads to those on the other side."""
+    pairs = [(a, b) for houses in sides for a in houses for b in range(tree.houses) if b not in houses]
+    return tuple(sorted({(names[a], names[b]) for a, b in pairs}))
 
 
 def check_seats(tree, seats):

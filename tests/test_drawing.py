@@ -149,6 +149,19 @@ class TestJudging(Case):
         value = (line, ["ann", "p", "bo", "q"], (1, 3), deeds)
         self.assertEqual([is_behind(founds, value), is_drawing(founds, value)], [True, False])
 
+    def test_one_log_is_another_one(self):
+        for k, lines in enumerate([[A, B, D, C], [C, A, B, D], [D, B, C, A]]):
+            founds = [(own, lines if at == k else row) for at, (own, row) in enumerate(FOUNDS)]
+            self.assertIs(fits(founds), True)
+            self.assertEqual([is_behind(founds, BEHIND), is_drawing(founds, BEHIND)], [False, False])
+
+    def test_one_seat_for_two_readers(self):
+        founds = [(None, [A]), (None, [A])]
+        tree, names, seats, script = drawing(founds)
+        self.assertEqual([len(tree), is_behind(founds, (tree, names, seats, script))], [3, True])
+        for seat in seats:
+            self.assertIs(is_behind(founds, (tree, names, (seat, seat), script)), False)
+
     def test_readers_alike(self):
         founds = [(None, [A]), ("ann", [A]), (None, [A])]
         for roads in [[(0, 1), (1, 2)], [(0, 1), (0, 2)], [(0, 2), (1, 2)]]:

@@ -212,6 +212,11 @@ class TestIsPicture(Case):
             self.assertIs(is_picture(THREE, value), False, value)
         for value in [("away", False, X, Y), ("away", 1, X, Y), ("away", 0, Y, X), ("away", 0, list(X), Y), ("away", 0, X, X)]:
             self.assertIs(is_picture(AWAY, value), False, value)
+        # Lines that part the readers as they should.
+        for value in [("away", 0, X, Y), ("away", 0, Y, X), ("away", 1, Y, X), ("away", 1, X, Y)]:
+            self.assertIs(is_picture([("ann", [X, Y]), ("bo", [Y, X])], value), False, value)
+        for value in [("ringed", (1,), ("cy", ["cy"])), ("ringed", (1,), ("cy", None)), ("ringed", (1,), (["cy"], "cy")), ("ringed", (1,), ("cy", {}))]:
+            self.assertIs(is_picture(RINGED, value), False, value)
         for value in [("ringed", (True,), ("cy",)), ("ringed", [1], ("cy",)), ("ringed", (1,), ["cy"]), ("ringed", (1,), ()), ("ringed", (1,), ("cy", "cy")),
                       ("ringed", (0,), ("cy",)), ("ringed", (), ("cy",)), ("ringed", (2,), ("cy",)), ("ringed", (1,), "cy"), ("ringed", (1,), (["cy"],))]:
             self.assertIs(is_picture(RINGED, value), False, value)

@@ -192,7 +192,8 @@ class TestErrors(Case):
                 self.raises(InvalidIndex, {"given": value}, two_far, FOUNDS, value, value)
             if value != "ann":
                 self.raises(InvalidName, {"given": value}, two_far, FOUNDS, 0, value)
-                self.raises(InvalidName, {"given": value}, two_nearer, FOUNDS, value, value)
+                self.raises(InvalidName, {"given": value}, two_nearer, FOUNDS, value, [])
+                self.raises(InvalidName, {"given": value}, two_nearer, FOUNDS, value, "ann")
             self.raises(InvalidName, {"given": value}, two_nearer, FOUNDS, "ann", value)
         for value in ["dan", "cyy", "c", None, 0, 1]:
             self.raises(InvalidName, {"given": value}, two_far, [("ann", [M]), (None, [M])], 0, value)
