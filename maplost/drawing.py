@@ -2,7 +2,7 @@
 
 from maplost.fewest import empty_choices, fewest, parts
 from maplost.founds import names_of
-from maplost.matches import match
+from maplost.matches import matching
 from maplost.networks import both_ways
 from maplost.pictures import check_fits
 from maplost.places import map_of, places, ways
@@ -57,7 +57,7 @@ def drawing(founds):
 
 def draw_places(sketch, founds, drawn):
     """Adds the houses of the places and of all readers; the tuple of the seats."""
-    named = {k: name for name, k in match(empty_choices(founds, drawn)).items()}
+    named = {k: name for name, k in matching(empty_choices(founds, drawn)).items()}
     homes = places(drawn, len(founds))
     seats = {}
     rows = rows_at(founds, drawn)

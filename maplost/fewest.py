@@ -2,7 +2,7 @@
 
 from maplost.founds import check_name, names_of
 from maplost.lots import parted_sides
-from maplost.matches import match, short_of
+from maplost.matches import matching, short_of
 from maplost.pictures import check_fits
 from maplost.places import map_of, places
 from maplost.rows import is_on_side, place_lots
@@ -47,7 +47,7 @@ def fewest(founds):
 
 def nameless(choices):
     """The least number of places without readers that stay without a name."""
-    return len(choices) - len(match(choices))
+    return len(choices) - len(matching(choices))
 
 
 def names_by(choices, numbers):

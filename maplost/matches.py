@@ -1,7 +1,7 @@
 """Matchings: each of some numbers gets one of its names, no two the same one."""
 
 
-def match(choices):
+def matching(choices):
     """The numbers of as many items of `choices` as can be given different names, by name."""
     taken = {}
     for number in choices:
@@ -22,7 +22,7 @@ def give(number, choices, taken, tried):
 
 def short_of(choices):
     """The numbers that show that no matching has more: as many more than all their names as stay without one."""
-    taken = match(choices)
+    taken = matching(choices)
     matched = list(taken.values())
     fresh = [number for number in choices if number not in matched]
     numbers = []

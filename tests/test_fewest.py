@@ -4,7 +4,7 @@ from itertools import combinations, product
 
 from maplost.errors import Fitless, InvalidFounds, InvalidName, NotWhole
 from maplost.fewest import fewest, is_why_no_fewer, part, why_no_fewer
-from maplost.matches import match, short_of
+from maplost.matches import matching, short_of
 from maplost.pictures import fits, is_picture
 from maplost.places import map_of, places
 from maplost.trees import Tree
@@ -169,7 +169,7 @@ class TestMatches(Case):
         for _ in range(500):
             pool = "abcde"[:dice.randrange(1, 6)]
             choices = {k: sorted(dice.sample(pool, dice.randrange(min(len(pool), 3) + 1))) for k in dice.sample(range(9), dice.randrange(6))}
-            taken = match(choices)
+            taken = matching(choices)
             self.assertEqual(len(taken), most_matched(choices))
             self.assertEqual(len(set(taken.values())), len(taken))
             self.assertTrue(all(name in choices[k] for name, k in taken.items()))
@@ -179,9 +179,9 @@ class TestMatches(Case):
 
     def test_many(self):
         choices = {k: list("abcdefghijklmnopqrstuvwxyz")[:k + 1] for k in range(26)}
-        self.assertEqual([len(match(choices)), short_of(choices)], [26, []])
+        self.assertEqual([len(matching(choices)), short_of(choices)], [26, []])
         choices = {k: list("abcdefghijklmnopqrstuvwxyz") for k in range(40)}
-        self.assertEqual([len(match(choices)), short_of(choices)], [26, list(range(40))])
+        self.assertEqual([len(matching(choices)), short_of(choices)], [26, list(range(40))])
 
 
 class TestErrors(Case):
