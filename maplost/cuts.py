@@ -86,11 +86,14 @@ def is_map(value, readers):
     check_many(readers)
     if not is_list(value) or not all([is_cut(cut, readers) for cut in value]):
         return False
+    # Lots that ascend are not so many, whatever the length of the list, that comparing each two of them takes long.
+    if not is_ascending([cut[0] for cut in value]):
+        return False
     lots = [lot_of(cut[0]) for cut in value]
     for k, lot in enumerate(lots):
         if any([do_cross(lot, other) for other in lots[:k]]):
             return False
-    return is_ascending([cut[0] for cut in value])
+    return True
 
 
 def is_cut(value, readers):

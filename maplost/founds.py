@@ -14,9 +14,13 @@ def is_founds(value):
     for item in value:
         if not is_tuple(item, 2) or not are_lines(item[1]):
             return False
-        if item[0] is not None and not is_name(item[0]):
-            return False
-    return are_different([own for own, lines in value if own is not None])
+    return are_owns([own for own, lines in value])
+
+
+def are_owns(values):
+    """Whether any values of a list are owns of different readers: names, none of them twice, and None."""
+    known = [own for own in values if own is not None]
+    return all([is_name(own) for own in known]) and are_different(known)
 
 
 def check_founds(founds):

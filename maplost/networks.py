@@ -145,8 +145,13 @@ def run_network(tree, names, script=()):
     return network
 
 
-def finish(network):
-    """Hands lines over as long as there is a road on which this can be done."""
+def hand_next(network, u, v):
+    """Hands the next line over from u to v, and returns it."""
+    return network.hand(u, v)
+
+
+def carry_on(network, deed):
+    """Does a deed that hands one line over as long as there is a road on which it can be done."""
     stopped = network.stopped
     roads = [(u, v) for u, v in both_ways(network.tree) if u not in stopped and v not in stopped]
     moved = True
@@ -154,5 +159,10 @@ def finish(network):
         moved = False
         for u, v in roads:
             while network.under_way(u, v):
-                network.hand(u, v)
+                deed(network, u, v)
                 moved = True
+
+
+def finish(network):
+    """Hands lines over as long as there is a road on which this can be done."""
+    carry_on(network, hand_next)

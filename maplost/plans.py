@@ -2,11 +2,9 @@
 
 from maplost.errors import Refused
 from maplost.networks import is_script, run_network
-from maplost.texts import are_names
+from maplost.texts import are_names, short_names
 from maplost.trees import Tree
 from maplost.values import are_different, is_tuple
-
-LETTERS = "abcdefghijklmnopqrstuvwxyz"
 
 
 def is_plan(value, readers):
@@ -39,5 +37,4 @@ def are_seat_names(founds, names, seats):
 
 def fresh_name(used):
     """The first name of one or two letters that is not used."""
-    names = [first + second for first in ["", *LETTERS] for second in LETTERS]
-    return [name for name in names if name not in used][0]
+    return [name for name in short_names() if name not in used][0]

@@ -5,6 +5,7 @@ from maplost.values import are_different, is_list, is_number, is_tuple
 
 NAME_LENGTH = 8
 TEXT_LENGTH = 40
+LETTERS = "abcdefghijklmnopqrstuvwxyz"
 ROUND_WORD = "round "
 ROUND_FIGURES = 9
 
@@ -37,13 +38,18 @@ def line_text(line):
 
 def read_line(text):
     """The line that `line_text` gives this string for."""
-    if type(text) is not str:
-        raise InvalidText(text)
-    name, space, rest = text.partition(" ")
-    line = (name, rest)
-    if space == "" or not is_line(line):
+    line = line_in(text)
+    if line is None:
         raise InvalidText(text)
     return line
+
+
+def line_in(value):
+    """The line that any value has as one string, or None if it is no such string."""
+    if type(value) is not str:
+        return None
+    name, space, rest = value.partition(" ")
+    return (name, rest) if space == " " and is_line((name, rest)) else None
 
 
 def is_round(value):
@@ -51,6 +57,11 @@ def is_round(value):
     if type(value) is not str or not value.startswith(ROUND_WORD):
         return False
     return is_number(value[len(ROUND_WORD):], ROUND_FIGURES)
+
+
+def short_names():
+    """The list of the names of one letter, and behind them of those of two letters."""
+    return [first + second for first in ["", *LETTERS] for second in LETTERS]
 
 
 def are_names(value, many):

@@ -3,10 +3,13 @@
 import random
 import unittest
 
+from maplost.desk import Desk
 from maplost.errors import InvalidText, LostError, NotRight
 from maplost.founds import found
 from maplost.networks import Network, both_ways
+from maplost.rounds import hear
 from maplost.trees import Tree
+from maplost.watch import Watch
 
 
 def deep(value):
@@ -26,7 +29,7 @@ def any_values():
         [(None, [("ann", "x")])], [("ann", [["ann", "x"]])], {"ann": "x"}, [("make", 0, "x")], ("make", 0, "x"),
         ((0,), (1,)), ((1,), (0,)), ([0], [1]), (((0,), (1,)),), tree, [tree], (tree, ["a", "b"], (0, 1), []),
         Network(tree, ["ann", "bo"]), LostError("x"), InvalidText(3), NotRight((0, 1), ()), [[]], [[], []],
-        deep("ann"), deep(None), deep(tree), [None] * 3000, ("a",) * 3000,
+        deep("ann"), deep(None), deep(tree), [None] * 3000, ("a",) * 3000, Desk(["ann"]), Watch(Network(tree, ["ann", "bo"]), [0]),
     ]
     return values
 
@@ -134,6 +137,28 @@ def round_network(dice, tree, writers):
         if not roads:
             return network
         network.hand(*dice.choice(roads))
+
+
+def round_run(dice, tree, texts, steps, may_lose, stops=0.0):
+    """A network that has run at random by `make`, `hear`, `lose` and `stop`, losing just what `may_lose` lets it lose."""
+    network = Network(tree, house_names(tree.houses))
+    for _ in range(steps):
+        live = [house for house in range(tree.houses) if house not in network.stopped]
+        roads = [road for road in both_ways(tree) if network.under_way(*road)]
+        free = [(u, v) for u, v in roads if u in live and v in live]
+        house, text = dice.choice(live or [0]), dice.choice(texts)
+        fresh = (network.names[house], text) not in network.log(house)
+        if live and fresh and (not roads or dice.random() < 0.15):
+            network.make(house, text)
+        elif roads and dice.random() < 0.1:
+            road = dice.choice(roads)
+            if may_lose(*road, network.under_way(*road)[0]):
+                network.lose(*road)
+        elif free:
+            hear(network, *dice.choice(free))
+        if live and dice.random() < stops:
+            network.stop(dice.choice(live))
+    return network
 
 
 def ends_of(tree):

@@ -39,7 +39,7 @@ class TestExamples(unittest.TestCase):
 
     def test_all_files(self):
         names = sorted(os.listdir(FOLDER))
-        self.assertEqual(len(names), 17)
+        self.assertEqual(len(names), 26)
         for name in names:
             self.run_file(name)
 

@@ -209,7 +209,9 @@ class TestLanguage(unittest.TestCase):
 
     def test_attributes(self):
         methods = {node.name for _, node in self.each(ast.FunctionDef)}
+        properties = {node.name for _, node in self.each(ast.FunctionDef) if node.decorator_list}
         stored = {n.attr for _, n in self.each(ast.Attribute) if isinstance(n.ctx, ast.Store)}
+        self.assertEqual(stored & properties, set())
         self.assertEqual(stored & BARRED_ATTRIBUTES, set())
         called = {id(node.func) for _, node in self.each(ast.Call)}
         for place, node in self.each(ast.Attribute):
@@ -217,7 +219,7 @@ class TestLanguage(unittest.TestCase):
                 self.assertIn(node.attr, METHODS | methods, place)
                 self.assertNotEqual(node.attr, "sort", place)
             elif isinstance(node.ctx, ast.Load):
-                self.assertIn(node.attr, stored | {"stopped", "script"}, place)
+                self.assertIn(node.attr, stored | properties, place)
 
     def test_keywords_of_builtins(self):
         allowed = {"sorted": {"key", "reverse"}, "min": {"key", "default"}, "max": {"key", "default"}}
@@ -259,6 +261,8 @@ class TestLanguage(unittest.TestCase):
         heads = set()
         for _, node in self.each((ast.For, ast.comprehension)):
             heads.add(id(node.iter))
+            if isinstance(node.iter, ast.Call) and getattr(node.iter.func, "id", None) == "reversed":
+                heads.update(id(item) for item in node.iter.args if getattr(item.func, "id", None) == "range")
         for _, node in self.each(ast.Call):
             if isinstance(node.func, ast.Name) and node.func.id in ("list", "tuple", "dict", "sorted", "sum"):
                 heads.update(id(item) for item in node.args)
